@@ -1,0 +1,1 @@
+"""Programs that are changed so that every name keeps its meaning."""

@@ -1,0 +1,114 @@
+"""Holds the files of the package against rules of LANGUAGE.md that a program can look at."""
+
+import ast
+import builtins
+import os
+import unittest
+
+PACKAGE = "keptbindings"
+FOLDER = os.path.join(os.path.dirname(os.path.dirname(os.path.abspath(__file__))), PACKAGE)
+BARRED_NODES = (
+    ast.AsyncFunctionDef, ast.AsyncFor, ast.AsyncWith, ast.Await, ast.Global, ast.Import, ast.Set, ast.SetComp, ast.Div,
+)
+BARRED_NAMES = {"register", "mro", "elements", "open", "input", "law", "exec", "eval", "compile", "vars", "dir", "id", "type"}
+
+
+def files():
+    """The texts of the files of the package, by their names without the ending."""
+    found = {}
+    for name in sorted(os.listdir(FOLDER)):
+        if name != "__pycache__":
+            with open(os.path.join(FOLDER, name), encoding="utf-8", newline="") as file:
+                found[name] = file.read()
+    return {name.removesuffix(".py"): text for name, text in found.items()}
+
+
+FILES = files()
+TREES = {name: ast.parse(text) for name, text in FILES.items()}
+
+
+def functions(tree):
+    return [node for node in ast.walk(tree) if isinstance(node, ast.FunctionDef)]
+
+
+def locals_of(node):
+    rest = [*node.args.posonlyargs, *node.args.args, *node.args.kwonlyargs]
+    names = [one.arg for one in rest]
+    names += [one.id for one in ast.walk(node) if isinstance(one, ast.Name) and isinstance(one.ctx, ast.Store)]
+    return names
+
+
+class LanguageTest(unittest.TestCase):
+    def test_the_folder_has_plain_files_alone(self):
+        for name in os.listdir(FOLDER):
+            if name != "__pycache__":
+                self.assertRegex(name, r"^[a-z_]+\.py$")
+        self.assertIn("__init__", FILES)
+
+    def test_characters_and_sizes(self):
+        for name, text in FILES.items():
+            self.assertTrue(all(char == "\n" or " " <= char <= "~" for char in text), name)
+            self.assertLessEqual(text.count("\n"), 399, name)
+            self.assertLessEqual(max(len(line) for line in text.split("\n")), 120, name)
+            for node in functions(TREES[name]):
+                self.assertLessEqual(node.end_lineno - node.lineno + 1, 40, name + " " + node.name)
+
+    def test_imports_name_the_file_that_defines(self):
+        for name, tree in TREES.items():
+            for node in ast.walk(tree):
+                if isinstance(node, ast.ImportFrom):
+                    package, _, file = node.module.partition(".")
+                    self.assertEqual((package, node.level), (PACKAGE, 0), name)
+                    defined = [one.name for one in TREES[file].body if hasattr(one, "name")]
+                    defined += [one.targets[0].id for one in TREES[file].body if isinstance(one, ast.Assign)]
+                    for alias in node.names:
+                        self.assertIn(alias.name, defined, name)
+                        self.assertIsNone(alias.asname)
+
+    def test_imports_form_no_ring(self):
+        reached = {}
+        for name, tree in TREES.items():
+            reached[name] = {node.module.partition(".")[2] for node in ast.walk(tree) if isinstance(node, ast.ImportFrom)}
+        for _ in reached:
+            for name in reached:
+                reached[name] = reached[name].union(*[reached[one] for one in reached[name]])
+        for name, others in reached.items():
+            self.assertNotIn(name, others)
+
+    def test_imports_are_used(self):
+        for name, tree in TREES.items():
+            used = [node.id for node in ast.walk(tree) if isinstance(node, ast.Name)]
+            for node in ast.walk(tree):
+                if isinstance(node, ast.ImportFrom):
+                    for alias in node.names:
+                        self.assertIn(alias.name, used, name)
+
+    def test_nothing_barred_occurs(self):
+        for name, tree in TREES.items():
+            for node in ast.walk(tree):
+                self.assertNotIsInstance(node, BARRED_NODES, name)
+                self.assertFalse(getattr(node, "decorator_list", []), name)
+                for word in (getattr(node, "id", None), getattr(node, "attr", None), getattr(node, "name", None)):
+                    self.assertNotIn(word, BARRED_NAMES, name)
+                if isinstance(node, ast.Compare) and isinstance(node.ops[0], (ast.Is, ast.IsNot)):
+                    self.assertIsInstance(node.comparators[0], ast.Constant, name)
+
+    def test_no_name_hides_a_builtin_an_import_or_a_class(self):
+        for name, tree in TREES.items():
+            taken = set(dir(builtins))
+            for node in ast.walk(tree):
+                if isinstance(node, ast.ImportFrom):
+                    taken.update(alias.name for alias in node.names)
+                if isinstance(node, ast.ClassDef):
+                    taken.add(node.name)
+            for node in functions(tree):
+                for word in locals_of(node):
+                    self.assertNotIn(word, taken, name + " " + node.name)
+
+    def test_modules_hold_definitions_and_plain_values_alone(self):
+        for name, tree in TREES.items():
+            for node in tree.body:
+                kinds = (ast.ImportFrom, ast.FunctionDef, ast.ClassDef, ast.Assign, ast.Expr)
+                self.assertIsInstance(node, kinds, name)
+                if isinstance(node, ast.Expr):
+                    self.assertIsInstance(node.value, ast.Constant, name)
