@@ -1,14 +1,14 @@
 """The scopes of a module."""
 
-from keptbindings.tables import Finder
+from keptbindings.errors import BadPlace
 
 
 def scopes(project, module):
     """The list of a module's scopes by their starts, tuples (start, kind, outer, names)."""
-    finder = Finder()
-    finder.look_through(project.tree_of(module))
-    rows = [(one.start, one.kind, _start_outside(one), sorted(one.names)) for one in finder.found]
-    return sorted(rows, key=lambda row: row[0])
+    if not project.has(module):
+        raise BadPlace(module)
+    found = project.naming().links.finders[module].found
+    return [(one.start, one.kind, _start_outside(one), sorted(one.names)) for one in found]
 
 
 def _start_outside(scope):

@@ -10,6 +10,10 @@ FOLDER = os.path.join(os.path.dirname(os.path.dirname(os.path.abspath(__file__))
 BARRED_NODES = (
     ast.AsyncFunctionDef, ast.AsyncFor, ast.AsyncWith, ast.Await, ast.Global, ast.Import, ast.Set, ast.SetComp, ast.Div,
 )
+BARRED_ATTRIBUTES = {
+    "items", "keys", "values", "pop", "update", "append", "clear", "extend", "insert", "remove", "reverse", "setdefault",
+    "sort", "args", "encode", "decode", "hex", "fromhex", "format", "format_map", "mro",
+}
 BARRED_NAMES = {"register", "mro", "elements", "open", "input", "law", "exec", "eval", "compile", "vars", "dir", "id", "type"}
 
 
@@ -92,6 +96,30 @@ class LanguageTest(unittest.TestCase):
                     self.assertNotIn(word, BARRED_NAMES, name)
                 if isinstance(node, ast.Compare) and isinstance(node.ops[0], (ast.Is, ast.IsNot)):
                     self.assertIsInstance(node.comparators[0], ast.Constant, name)
+
+    def test_no_attribute_has_the_name_of_a_builtin_method_that_is_barred(self):
+        for name, tree in TREES.items():
+            for node in ast.walk(tree):
+                if isinstance(node, ast.Attribute) and isinstance(node.ctx, ast.Store):
+                    self.assertNotIn(node.attr, BARRED_ATTRIBUTES, name)
+
+    def test_no_name_is_a_method_and_an_attribute(self):
+        for name, tree in TREES.items():
+            for node in [one for one in tree.body if isinstance(one, ast.ClassDef)]:
+                methods = [one.name for one in node.body if isinstance(one, ast.FunctionDef)]
+                self.assertEqual(len(methods), len(set(methods)))
+                for one in ast.walk(node):
+                    if isinstance(one, ast.Attribute) and isinstance(one.ctx, ast.Store):
+                        self.assertNotIn(one.attr, methods, name)
+
+    def test_what_is_asked_is_a_list_and_sets_are_not_stored(self):
+        asked = ("any", "all", "min", "max", "sum", "sorted")
+        for name, tree in TREES.items():
+            for node in ast.walk(tree):
+                if isinstance(node, ast.Call) and isinstance(node.func, ast.Name) and node.func.id in asked:
+                    self.assertFalse([one for one in node.args if isinstance(one, ast.GeneratorExp)], name)
+                if isinstance(node, ast.Call) and isinstance(node.func, ast.Attribute):
+                    self.assertNotEqual(node.func.attr, "sort", name)
 
     def test_no_name_hides_a_builtin_an_import_or_a_class(self):
         for name, tree in TREES.items():
