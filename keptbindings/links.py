@@ -6,7 +6,7 @@ key tells what a name means: ("own", ..spot), ("module", "", -1, name) or
 is not found, and for one that a broken nonlocal or import brings.
 """
 
-from keptbindings.tables import Finder
+from keptbindings.tables import Finder, Star
 from keptbindings.trees import ClassBlock, Def
 
 BUILTINS = ("len", "range", "show")
@@ -144,6 +144,17 @@ class Links:
             if name in star.names:
                 return ("own", star.source, -1, name)
         return ("builtin", "", -1, name) if name in BUILTINS else None
+
+    def meant_on_the_way(self, scope, name):
+        """The list of the keys that a name has in the tables in which a scope looks for it, the nearest one first."""
+        found = []
+        for table in self._tables(scope):
+            if name in table.names:
+                starred = isinstance(table, Star)
+                found.append(("own", table.source, -1, name) if starred else self.key(self.spot(table, name)))
+        if name in BUILTINS:
+            found.append(("builtin", "", -1, name))
+        return found
 
     def passed(self, scope, name):
         """The tables, scopes and stars, in which a name that a scope looks for is looked for in vain."""

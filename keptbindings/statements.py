@@ -163,10 +163,10 @@ def _read_while(cursor):
 def _read_for(cursor):
     start = cursor.expect("for")
     name = cursor.take_name()
-    cursor.expect("in")
+    word_in = cursor.expect("in")
     source = read_expression(cursor, FREE)
     body = _read_block(cursor, True)
-    return For(start, cursor.end, name, source, body)
+    return For(start, cursor.end, name, word_in, source, body)
 
 
 def _read_return(cursor):

@@ -73,7 +73,8 @@ class Sight:
 class Finder:
     """Goes through a module; found has its scopes, that of the module first, and sights its names.
 
-    broken has the starts of names in global and nonlocal that are parameters, or in both.
+    broken has the starts of names in global and nonlocal that are parameters, or in both;
+    calls has the calls of a name, or of something, a point and a name, by the starts of these names.
     """
 
     def __init__(self, module, tree):
@@ -81,6 +82,7 @@ class Finder:
         self.found = []
         self.sights = []
         self.broken = []
+        self.calls = {}
         self._block(tree, self._begin("module", -1, None, None))
         self.found = sorted(self.found, key=lambda one: one.start)
         self.sights = sorted(self.sights, key=lambda one: one.start)
@@ -225,6 +227,10 @@ class Finder:
         self._see(node.name, scope, role, node)
 
     def _call(self, node, scope):
+        if isinstance(node.called, Name):
+            self.calls[node.called.start] = node
+        elif isinstance(node.called, Member):
+            self.calls[node.called.name.start] = node
         self._expression(node.called, scope)
         for argument in node.arguments:
             if argument.keyword is not None:

@@ -259,12 +259,13 @@ class While:
 
 
 class For:
-    """for name in source body"""
+    """for name in source body; word_in is the start of the in."""
 
-    def __init__(self, start, end, name, source, body):
+    def __init__(self, start, end, name, word_in, source, body):
         self.start = start
         self.end = end
         self.name = name
+        self.word_in = word_in
         self.source = source
         self.body = body
 

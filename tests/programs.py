@@ -137,6 +137,36 @@ class Writer:
         return "".join(rows)
 
 
+    def defs_module(self):
+        """A module with defs whose bodies have many statements."""
+        rows = [name + " = 1; " for name in self.names]
+        for _ in range(2):
+            body = "".join(self.statement(3, False) for _ in range(6))
+            rows.append("def " + self.name() + "(" + self.parameters() + ") { " + body + "} ")
+        return "".join(rows) + "class k { " + "".join(name + " = 1; " for name in self.names) + "}"
+
+
+    def returns_module(self, modules):
+        """A module with defs that return an expression alone, and calls of them."""
+        rows = []
+        for _ in range(self.source.randrange(2)):
+            rows.append(self.import_line(modules))
+        for _ in range(self.source.randrange(1, 5)):
+            kind = self.source.randrange(8)
+            if kind == 0:
+                rows.append(self.class_block())
+            elif kind == 1:
+                rows.append(self.name() + " = " + self.expression(1, False) + "; ")
+            elif kind == 2:
+                rows.append(self.definition(2))
+            else:
+                inner = "def " + self.name() + "(" + self.parameters() + ") { return " + self.expression(3) + "; } "
+                if kind < 5:
+                    inner = "def " + self.name() + "(" + self.parameters() + ") { " + inner + self.statement(1, False) * 2 + "} "
+                rows.append(inner)
+        return "".join(rows)
+
+
 def random_texts(source, names=NAMES):
     """The texts of some modules, which may break rules."""
     modules = MODULES[:source.randrange(1, 4)]
@@ -157,6 +187,9 @@ def repaired(source, texts, names=NAMES, tries=12):
         for module, start in reversed(sorted(set(naming.broken))):
             text = texts[module]
             sight = naming.sights[(module, start)]
+            if sight.role == "outer" and source.randrange(2):
+                texts[module] = text[:sight.node.start] + "pass;" + text[sight.node.end:]
+                continue
             if sight.role == "keyword" and naming.members.def_called(sight) is None:
                 sight = naming.sights.get((module, sight.node.called.start), sight)
                 start = sight.start
@@ -200,5 +233,27 @@ def random_projects(source, many, names=NAMES):
     while len(found) < many:
         project = repaired(source, random_texts(source, names), names)
         if project is not None and any(project.modules().values()):
+            found.append(project)
+    return found
+
+
+def random_flows(source, many, names=NAMES):
+    """A list of random projects of one module, m, with long defs."""
+    found = []
+    while len(found) < many:
+        project = repaired(source, {"m": Writer(source, names).defs_module()}, names)
+        if project is not None:
+            found.append(project)
+    return found
+
+
+def random_returns(source, many, names=NAMES):
+    """A list of random projects with calls of defs that return an expression alone."""
+    found = []
+    while len(found) < many:
+        modules = MODULES[:source.randrange(1, 3)]
+        writer = Writer(source, names)
+        project = repaired(source, {module: writer.returns_module(modules) for module in modules}, names)
+        if project is not None:
             found.append(project)
     return found
