@@ -19,7 +19,7 @@ class Flow:
     """The stations of a def of a module: stops has them by their starts, in the order of the text."""
 
     def __init__(self, naming, module, node):
-        self.naming = naming
+        self._naming = naming
         self.module = module
         self.node = node
         self.scope = naming.links.scopes[(module, node.start)]
@@ -33,7 +33,7 @@ class Flow:
     def _own_names(self):
         """The own names: parameters, then the others in the order in which they are brought."""
         found = {name: True for name in self.scope.parameters}
-        for sight in self.naming.sights_within(self.module, self.node.start, self.node.end):
+        for sight in self._naming.sights_within(self.module, self.node.start, self.node.end):
             inside = sight.brings and sight.scope.start == self.scope.start
             if inside and sight.text not in self.scope.words:
                 found[sight.text] = True
@@ -43,7 +43,7 @@ class Flow:
         return ("own", self.module, self.scope.start, name)
 
     def _is_own(self, sight):
-        return sight.role != KEYWORD and self.naming.key_of[sight.place] == self._key(sight.text)
+        return sight.role != KEYWORD and self._naming.key_of[sight.place] == self._key(sight.text)
 
     def is_held(self, sight):
         """Whether an own name stands within a fn or an inner def."""
@@ -121,7 +121,7 @@ class Flow:
         self._stop(row.start, reads, writes, [behind])
 
     def _if_own(self, name):
-        return [name.text] if self.naming.key_of[(self.module, name.start)] == self._key(name.text) else []
+        return [name.text] if self._naming.key_of[(self.module, name.start)] == self._key(name.text) else []
 
     def _reads(self, node):
         """The own names that an expression reads, in the order in which a run meets them."""

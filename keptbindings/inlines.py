@@ -28,7 +28,7 @@ class Inlining:
         self._project = project
         self._naming = project.naming()
         self._place = place
-        self._call = call
+        self._replaced = call
         self._brought = brought
         self._node = brought.node
         self._home = brought.scope.module
@@ -55,7 +55,7 @@ class Inlining:
         return body[0].value
 
     def _arguments(self):
-        told = matched(self._node, self._call)
+        told = matched(self._node, self._replaced)
         if told is None:
             self._refuse("arguments", self._brought.place)
         found = {}
@@ -71,9 +71,9 @@ class Inlining:
 
     def _refuse_order(self):
         """Refuses, if arguments would be computed in another order."""
-        told = matched(self._node, self._call)
+        told = matched(self._node, self._replaced)
         starts = [argument.value.start for argument in told.values() if argument is not None]
-        for argument in self._call.arguments:
+        for argument in self._replaced.arguments:
             start = argument.value.start
             ahead = starts[:starts.index(start)]
             if not self._safe and any([other > start for other in ahead]):
@@ -141,9 +141,9 @@ class Inlining:
             strand = Strand(module)
             at = 0
             if module == self._place[0]:
-                strand.copy_piece(self._project, module, 0, self._call.start, self._everywhere)
+                strand.copy_piece(self._project, module, 0, self._replaced.start, self._everywhere)
                 self._write_call(strand)
-                at = self._call.end
+                at = self._replaced.end
             strand.copy_piece(self._project, module, at, len(text), self._everywhere)
             texts[module] = strand.written()
             for place, origin in strand.origins.items():

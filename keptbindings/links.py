@@ -70,7 +70,7 @@ class Links:
         link = self._link(at)
         return None if link is None or link.asked is None else (link.module, link.asked)
 
-    def asked(self, module, name):
+    def answer(self, module, name):
         """The key of what is asked of a module's table."""
         path = []
         at = (module, name)
@@ -117,7 +117,7 @@ class Links:
         if link is None or link.renamed:
             return ("own", module, start, name)
         if link.asked is not None:
-            return self.asked(link.module, link.asked)
+            return self.answer(link.module, link.asked)
         return ("module", "", -1, name) if name in self.roots else None
 
     def link(self, spot):
@@ -202,7 +202,7 @@ class Links:
                 return (sight.scope.module, sight.node.start) if found else None
             if link.asked is None:
                 return None
-            key = self.asked(link.module, link.asked)
+            key = self.answer(link.module, link.asked)
         return None
 
     def def_behind(self, key):

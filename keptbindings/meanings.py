@@ -30,6 +30,8 @@ class Meaning:
         self.places = places
 
     def __eq__(self, other):
-        if not isinstance(other, Meaning):
-            return False
-        return (self.kind, self.name, self.places) == (other.kind, other.name, other.places)
+        return isinstance(other, Meaning) and self.parts() == other.parts()
+
+    def parts(self):
+        """All that tells meanings apart."""
+        return (self.kind, self.name, self.places)

@@ -31,7 +31,7 @@ class Members:
         # The places of names that stand behind a point where no class is known, by the names.
         self.opens = {}
         # The members of all classes that are related to a root, and those of all classes.
-        self._related = {}
+        self._members_of = {}
         self._all = {}
         for place, scope in links.scopes.items():
             if scope.kind == "class":
@@ -43,10 +43,10 @@ class Members:
             self._collect(kind)
 
     def _collect(self, kind):
-        if kind.root not in self._related:
-            self._related[kind.root] = {}
+        if kind.root not in self._members_of:
+            self._members_of[kind.root] = {}
         for name in kind.members:
-            self._related[kind.root][name] = True
+            self._members_of[kind.root][name] = True
             self._all[name] = True
 
     def _find_bases(self):
@@ -62,7 +62,7 @@ class Members:
         if isinstance(sight.node.base, Name):
             return links.find(sight.scope, sight.text)
         module = links.module_behind(links.find(sight.scope, sight.node.base.left.text))
-        return None if module is None else links.asked(module, sight.text)
+        return None if module is None else links.answer(module, sight.text)
 
     def _join_related(self):
         """Gives all related classes the first one of them as their root."""
@@ -120,7 +120,7 @@ class Members:
     def member(self, place, name):
         """The key of the member of a class or of those that are related; None if they have none."""
         root = self.classes[place].root
-        return self._key(root, name) if name in self._related[root] else None
+        return self._key(root, name) if name in self._members_of[root] else None
 
     def open_member(self, name):
         """The key of a name behind a point where no class is known; None if no class has such a member."""
@@ -165,7 +165,7 @@ class Members:
             return self.links.find(sight.scope, called.text)
         if isinstance(called, Member) and isinstance(called.left, Name):
             module = self.links.module_behind(self.links.find(sight.scope, called.left.text))
-            return None if module is None else self.links.asked(module, called.name.text)
+            return None if module is None else self.links.answer(module, called.name.text)
         return None
 
     def _start_def(self, place):

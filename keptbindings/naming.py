@@ -69,7 +69,7 @@ class Naming:
         if sight.role == MODULE:
             return ("module", "", -1, sight.text) if sight.text in links.roots else None
         if sight.role == ASKED:
-            return links.asked(sight.node.module.text, sight.text)
+            return links.answer(sight.node.module.text, sight.text)
         if sight.role == BASE:
             return self.members.base_key(sight)
         if sight.role in (POINT, TARGET):
@@ -88,7 +88,7 @@ class Naming:
     def _key_behind_point(self, sight):
         module = self.members.module_ahead(sight)
         if module is not None:
-            return self.links.asked(module, sight.text)
+            return self.links.answer(module, sight.text)
         place = self.members.class_ahead(sight)
         if place is not None:
             return self.members.member(place, sight.text)

@@ -70,7 +70,8 @@ class Edit:
         self.text = text
 
     def __eq__(self, other):
-        if not isinstance(other, Edit):
-            return False
-        mine = (self.module, self.start, self.end, self.text)
-        return mine == (other.module, other.start, other.end, other.text)
+        return isinstance(other, Edit) and self.parts() == other.parts()
+
+    def parts(self):
+        """All that tells edits apart."""
+        return (self.module, self.start, self.end, self.text)

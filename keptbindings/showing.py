@@ -82,7 +82,7 @@ def shows_needs(part, names, lists):
 def shows_results(part, names, lists):
     """Whether stations behind the part have no names that the part writes but those of a list."""
     told = [name for one in part.exits for name in lists[one]]
-    return all([name in names or name not in part.written for name in told])
+    return all([name in names or name not in part.changed for name in told])
 
 
 def shows_unsure(part, names, lists):

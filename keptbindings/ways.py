@@ -35,7 +35,7 @@ class Part:
         # The stations outside that stand behind ones of the part.
         behind = [to for one in self.inside for to in stops[one].following if to is not None]
         self.exits = {to: True for to in sorted(behind) if to not in self.inside}
-        self.written = {name: True for one in self.inside for name in stops[one].writes}
+        self.changed = {name: True for one in self.inside for name in stops[one].writes}
 
     def needs(self):
         """The list of the names that the part reads before it writes them."""
@@ -90,7 +90,7 @@ class Part:
         """Whether the part must be given a name."""
         if self.way("need", name) is not None or self.way("through", name) is not None:
             return True
-        return name not in self.written and self._stands_inside(name)
+        return name not in self.changed and self._stands_inside(name)
 
     def _stands_inside(self, name):
         return any([sight.text == name and self.start <= sight.start < self.end for sight in self.flow.sights])
@@ -150,7 +150,7 @@ def _may_be(part, kind, name):
     if name not in part.flow.own:
         return False
     if kind == "result":
-        return name in part.written
+        return name in part.changed
     if kind == "through":
         return part.way("result", name) is not None
     if kind == "unsure":
