@@ -82,6 +82,8 @@ class ConflictTest(unittest.TestCase):
         text = "def f() { x = 1; def g() { y = 2; def h() { nonlocal x; } } }"
         project = Project({"m": text})
         self.assertEqual(conflict(project, ("m", 10), ("m", 27)), [("passed", ("m", text.index("x;")), "m", 17)])
+        self.check_none("def e() { @y = 1; def f() { @x = 1; def g() { nonlocal x; } } }")
+        self.check_none("def e() { @y = 1; def f() { global @x; } } x = 2;")
 
     def test_passed_stars_and_builtins(self):
         modules = {"m": "from n import *; from o import *; z = [x, len];", "n": "x = 1;", "o": "y = 1; a = 2;"}
@@ -92,6 +94,11 @@ class ConflictTest(unittest.TestCase):
         self.assertEqual(conflict(project, ("m", 42), ("o", 0)), [("passed", ("m", 42), "m", 31)])
         self.assertEqual(conflict(project, ("m", 42), ("m", 34)), [("passed", ("m", 42), "m", -1)])
         self.assertEqual(conflict(project, ("m", 34), ("n", 0)), [("passed", ("m", 39), "m", -1)])
+
+    def test_passed_by_bases(self):
+        self.check_none({"m": "import n; @d = 1; class e(n.c) { }", "n": "class @c { }"})
+        project = Project({"m": "from n import *; d = 1; class e(c) { }", "n": "class c { }"})
+        self.assertEqual(conflict(project, ("n", 6), ("m", 17)), [("passed", ("m", 32), "m", -1)])
 
     def test_related(self):
         text = "class a { x = 1; } class b(a) { def f(self) { self.y = 1; } } class c(b) { x = 2; y = 3; } class d { z = 1; }"

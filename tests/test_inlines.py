@@ -151,6 +151,10 @@ class InlineTest(unittest.TestCase):
     def test_names_that_would_be_caught(self):
         self.check("x = 1; def f() { return x; } def g(x) { return [x, @f()]; }",
                    "x = 1; def f() { return x; } def g(x_2) { return [x_2, (x)]; }", [(("m", 35), "x_2")])
+        self.check("x = 1; def f() { return [x, x]; } y = fn x: @f();",
+                   "x = 1; def f() { return [x, x]; } y = fn x_2: ([x, x]);", [(("m", 41), "x_2")])
+        self.check("x = 1; def f() { return x; } def g(x) { def h() { nonlocal x; return @f(); } }",
+                   "x = 1; def f() { return x; } def g(x_2) { def h() { nonlocal x_2; return (x); } }", [(("m", 35), "x_2")])
         self.check("x = 1; def f(a) { return [x, a]; } y = fn x: @f(x);",
                    "x = 1; def f(a) { return [x, a]; } y = fn x_2: ([x, x_2]);", [(("m", 42), "x_2")])
         self.check("x = 1; def f() { return x; } def g(x) { return fn x: [x, @f()]; }",
@@ -195,7 +199,7 @@ class InlineTest(unittest.TestCase):
             self.refused("y = fn: @f(" + arguments + "); def @f(a, b, c = 1) { return a; }", "arguments")
 
     def test_default(self):
-        for default in ("len", "[]", "(1)", "1 + 1", "- - 1", "- 'a'", "not true", "- (1)", "-len"):
+        for default in ("len", "[]", "(1)", "1 + 1", "- - 1", "- 'a'", "not true", "not 1", "- (1)", "-len"):
             self.refused("y = fn: @f(1); def f(a, b = 1, @c = " + default + ", d = []) { return a; }", "default")
         self.check("def f(a, b = []) { return a; } y = fn: @f(1, 2);", "def f(a, b = []) { return a; } y = fn: (1);")
 

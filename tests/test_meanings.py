@@ -135,6 +135,8 @@ class MeaningsTest(unittest.TestCase):
                    "class g(c) { def h(a) { def i() { a.@x = 1; } return [fn: a.@x, [a.@x for b in a]]; } } "
                    "class j { x = 1; }", "member")
         self.check("class c { x = 1; } class d { @x = 1; } y = d.@x;", "member")
+        self.check({"m": "class c { @x = 1; }", "n": "class c { x = 1; }"}, "member")
+        self.check({"m": "import n; y = n.x; class c { @x = 1; } class d { x = 2; }", "n": "x = 1;"}, "member")
         self.check({"m": "from n import c as d; class e(d) { @x = 1; } y = d.@x;", "n": "class c { @x = 1; } x = 1;"}, "member")
         self.check({"m": "import n; class e(n.c) { @x = 1; }", "n": "class c { @x = 1; } x = 1;"}, "member")
 

@@ -74,6 +74,8 @@ class RulesTest(unittest.TestCase):
             "class c { x = 1; def f(self) { nonlocal @x; } }",
             "def f() { def g() { nonlocal @x; def h() { nonlocal x; } } }",
             "def f() { return @x; nonlocal x; }",
+            "def f() { x = 1; nonlocal @x; }",
+            "def f() { x = 1; show(@x); nonlocal x; }",
             "x = 1; def f() { return fn: @x; nonlocal x; }",
             "def f() { def g() { def h() { nonlocal @x; } nonlocal x; } }",
             "def f() { global x; def g() { nonlocal x; x = 1; } }",
@@ -147,6 +149,7 @@ class RulesTest(unittest.TestCase):
             {"m": "import n; def f() { n.@x = 1; }", "n": "x = 1;"},
             {"m": "import n; def f() { y, n.@x = [1, 2]; }", "n": "x = 1;"},
             {"m": "def f() { return @x; } from n import x;", "n": ""},
+            {"m": "x = 1; from n import @x;", "n": ""},
             {"m": "from n import @x;", "n": "from k import x;", "k": ""},
             {"m": "from n import x;", "n": "from k import @y as x;", "k": ""},
             {"m": "import n; y = n.@x;", "n": "from k import x;", "k": ""},
@@ -163,6 +166,7 @@ class RulesTest(unittest.TestCase):
             {"m": "from n import @y;", "n": "from n import x as y; from n import y as x;"},
             {"m": "from n import x; from n import y;", "n": "from m import x as z; x = 1; y = 2;"},
             {"m": "import n;", "n": "import m; from n import *;"},
+            {"m": "from n import x; from n import x as z;", "n": "from o import x;", "o": "x = 1;", "p": "from m import z;"},
         )
 
     def test_imported_names_are_brought_once(self):
@@ -300,6 +304,9 @@ class RulesTest(unittest.TestCase):
             {"a": "import b; def f() { b.@x; }", "b": "y = x2;"},
             {"a": "from b import @x;", "b": "from c import x;", "c": ""},
             "def f() { return @x; } import n; class c(d) { }",
+            "y = @z; def f(x) { global x; }",
+            {"m": "from n import x; @x = 1; y = z;", "n": "x = 1;"},
+            {"m": "from n import x; y = @z; x = 1;", "n": "x = 1;"},
             "class c(@d) { } y = x;",
         )
 

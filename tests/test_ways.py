@@ -51,7 +51,12 @@ class PartTest(unittest.TestCase):
         self.check("def f(a, b) { c = 1; @d = b + c + a;@ return d; }", "a b c", "d")
         self.check("def f() { b = 1; a = 2; @show(a, b);@ }", "b a")
 
+    def test_order_of_names(self):
+        self.check("def f(d, a) { show(c, b); b = 1; c = 2; @show(c, b, a, d);@ }", "d a b c")
+        self.check("def f() { def g() { nonlocal c; c = 1; } b = 1; c = 2; @show(c, b, g);@ }", "g b c")
+
     def test_names_that_are_not_own(self):
+        self.check("def f(a) { b = 1; @g = fn b: b;@ return g; }", "", "g")
         self.check("x = 1; def f(a) { global y; @show(x, y, len, f); y = a;@ return y; }", "a")
         self.check("def f(a) { def g() { nonlocal a; @a = a; b = a;@ return b; } }", "", "b")
 
@@ -109,6 +114,9 @@ class PartTest(unittest.TestCase):
         for marked, wanted in (
             ("def f(a) { b = 1; g = fn: b; @b = 2;@ }", [("b", "b; ", "b = 1")]),
             ("def f(a) { @b = 1;@ g = fn: b; }", [("b", "b; }", "b = 1")]),
+            ("def f(a) { b = 1; g = fn b: b; @b = 2;@ }", []),
+            ("def f(a) { b = 1; g = fn: b; @c = [b for d in a];@ }", [("b", "b; c", "b = 1")]),
+            ("def f(a) { b = 1; c = [b for d in a]; @c = b;@ }", []),
             ("def f(a) { @b = 1; g = fn: b;@ }", []),
             ("def f(a) { while a { @b = 1; g = fn: b;@ } }", [("b", "b; }", "b = 1")]),
             ("def f(a) { @while a { b = 1; g = fn: b; }@ }", []),
@@ -287,6 +295,8 @@ class CheckTest(unittest.TestCase):
         self.check_table(True, "result", ["b", "c"], table, first=["a", "b", "c"])
         self.check_table(False, "result", ["b", "c"], table, first=["a"])
         self.check_table(False, "result", ["b", "c"], table, first=["c"])
+        for wrong in ("x", "f", "show", 1, None, ["c"], ("c",)):
+            self.check_table(False, "result", ["b", "c"], table, first=["a", "c", wrong])
         self.check_table(False, "result", ["b", "c"], table, loop=["a", "b"])
         self.check_table(False, "result", ["b", "c"], {place: told for place, told in table.items() if place != self.first})
 
@@ -318,6 +328,13 @@ class CheckTest(unittest.TestCase):
             for key in (("m", 1), ("n", 18), ("m", "18"), 18, "m", None, ("m", 18.0), ("m",)):
                 left = {place: told for place, told in table.items() if place != self.loop}
                 self.assertIs(check_table(self.part, kind, names, {**left, key: table[self.loop]}), False)
+
+    def test_names_in_tables_are_own(self):
+        part = part_of("def f(a) { global y; show(y, a); @b = a;@ return b; }")
+        table = part.table("result")
+        self.assertIs(check_table(part, "result", ["b"], table), True)
+        for wrong, good in (("show", False), ("y", False), ("f", False), ("b", True), ("a", True)):
+            self.assertIs(check_table(part, "result", ["b"], {**table, ("m", 11): ["a", wrong]}), good)
 
     def test_random_parts(self):
         for one in random_flows(random.Random(8), 6):
