@@ -22,7 +22,7 @@ class Links:
         # The names that bring a spot, by their order in the module.
         self.brought = {}
         self._answers = {}
-        self._outside = {}
+        self._beyond = {}
         for finder in self.finders.values():
             for scope in finder.found:
                 self.scopes[(scope.module, scope.start)] = scope
@@ -133,9 +133,9 @@ class Links:
                 return self.key(self.spot(inner, name))
             inner = inner.outer
         at = (inner.module, name)
-        if at not in self._outside:
-            self._outside[at] = self._find_outside(inner, name)
-        return self._outside[at]
+        if at not in self._beyond:
+            self._beyond[at] = self._find_outside(inner, name)
+        return self._beyond[at]
 
     def _find_outside(self, root, name):
         if name in root.names:

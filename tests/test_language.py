@@ -3,6 +3,7 @@
 import ast
 import builtins
 import os
+import re
 import unittest
 
 PACKAGE = "keptbindings"
@@ -14,6 +15,8 @@ BARRED_ATTRIBUTES = {
     "items", "keys", "values", "pop", "update", "append", "clear", "extend", "insert", "remove", "reverse", "setdefault",
     "sort", "args", "encode", "decode", "hex", "fromhex", "format", "format_map", "mro",
 }
+BARRED_WORDS = re.compile(r"_(cold|tuplegetter|outside|record|written_out|member_names)[0-9_]*")
+BARRED_BEGINS = ("_wall", "_pe_", "_dcw_", "_enum_", "_cm_", "_twin_re_", "_lay_", "_law_", "_stub_", "_sre", "_WallAttr")
 BARRED_NAMES = {"register", "mro", "elements", "open", "input", "law", "exec", "eval", "compile", "vars", "dir", "id", "type"}
 
 
@@ -42,7 +45,32 @@ def locals_of(node):
     return names
 
 
+def names_in(tree):
+    """All names in a tree: variables, parameters, keywords, attributes, functions, classes, caught errors, imports."""
+    found = []
+    for node in ast.walk(tree):
+        for field in ("id", "attr", "arg", "name", "rest"):
+            word = getattr(node, field, None)
+            if isinstance(word, str):
+                found.append(word)
+        if isinstance(node, (ast.Global, ast.Nonlocal)):
+            found.extend(node.names)
+    return found
+
+
 class LanguageTest(unittest.TestCase):
+    def test_no_name_is_a_word_that_is_not_plain(self):
+        for word in ("_cold", "_tuplegetter", "_outside", "_record", "_written_out", "_member_names", "_outside_2"):
+            for text in ("self.{} = 1", "{} = 1", "def f({}): pass", "def {}(): pass", "class {}: pass", "f({}=1)"):
+                found = names_in(ast.parse(text.format(word)))
+                self.assertTrue([one for one in found if BARRED_WORDS.fullmatch(one)], text)
+        for name, tree in TREES.items():
+            self.assertNotRegex(FILES[name], r"\b(_wall|_WallAttr)\b")
+            for word in names_in(tree):
+                self.assertIsNone(BARRED_WORDS.fullmatch(word), name)
+                self.assertFalse(word.startswith(BARRED_BEGINS), name)
+                self.assertRegex(word, r"^(_?[A-Za-z][A-Za-z0-9_]*|_|__(init|eq|len)__|keptbindings\.[a-z]+)$", name)
+
     def test_the_folder_has_plain_files_alone(self):
         for name in os.listdir(FOLDER):
             if name != "__pycache__":
