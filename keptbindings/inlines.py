@@ -1,14 +1,13 @@
 """Calls that become what their defs return, and defs that go."""
 
 from keptbindings.calls import call_at, def_name_at, is_plain_value, is_safe, matched
-from keptbindings.errors import BadPlace, BadProject, BadSyntax, BadText, Refused
+from keptbindings.errors import BadPlace, BadProject, Refused
 from keptbindings.members import START
 from keptbindings.projects import Project
 from keptbindings.renames import Change
-from keptbindings.statements import read_module
 from keptbindings.tables import AHEAD, KEYWORD, PLAIN, POINT
 from keptbindings.trees import Name, Return
-from keptbindings.weaving import FreshNames, Strand, renamed_places
+from keptbindings.weaving import Cloth, FreshNames, Strand, end_with_line, renamed_places
 
 
 def inline(project, place):
@@ -135,8 +134,7 @@ class Inlining:
 
     def change(self):
         """The change."""
-        texts = {}
-        origins = {}
+        cloth = Cloth()
         for module, text in self._project.modules().items():
             strand = Strand(module)
             at = 0
@@ -145,13 +143,11 @@ class Inlining:
                 self._write_call(strand)
                 at = self._replaced.end
             strand.copy_piece(self._project, module, at, len(text), self._everywhere)
-            texts[module] = strand.written()
-            for place, origin in strand.origins.items():
-                origins[place] = origin
-        _refuse_size(texts)
+            cloth.take_in(strand)
+        cloth.refuse_size()
         self._refuse_member()
         further = [(self._naming.places[key][0], name) for key, name in self._caught.items()]
-        return Change(self._project, Project(texts), origins, self._cut(), [], further)
+        return Change(self._project, Project(cloth.texts), cloth.origins, self._cut(), [], further)
 
     def _write_call(self, strand):
         """Writes what stands in the place of the call."""
@@ -216,14 +212,6 @@ class Inlining:
         return sorted(found)
 
 
-def _refuse_size(texts):
-    for text in texts.values():
-        try:
-            read_module(text)
-        except (BadText, BadSyntax):
-            raise Refused("size", None, None)
-
-
 def drop(project, place):
     """The change that takes a def away whose name stands at a place."""
     naming = project.naming()
@@ -234,29 +222,20 @@ def drop(project, place):
     for other in naming.places[naming.key_of[place]]:
         if other[0] != module or not node.start <= other[1] < node.end:
             raise Refused("used", place, other)
-    texts = {}
-    origins = {}
+    cloth = Cloth()
     for name, text in project.modules().items():
         strand = Strand(name)
         at = 0
         if name == module:
             strand.copy_piece(project, name, 0, node.start, {})
-            at = _end_with_line(text, node.end)
+            at = end_with_line(text, node.end)
         strand.copy_piece(project, name, at, len(text), {})
-        texts[name] = strand.written()
-        for behind, origin in strand.origins.items():
-            origins[behind] = origin
+        cloth.take_in(strand)
     try:
-        new = Project(texts)
+        new = Project(cloth.texts)
     except BadProject as error:
         raise Refused("needed", place, error.place)
-    found = Change(project, new, origins, [], [], [])
+    found = Change(project, new, cloth.origins, [], [], [])
     if not found.keeps():
         raise Refused("open", place, place)
     return found
-
-
-def _end_with_line(text, end):
-    """Where the line ends, with its line feed, if blanks alone stand ahead of that; otherwise the same end."""
-    feed = text.find("\n", end)
-    return feed + 1 if feed >= 0 and text[end:feed].strip(" ") == "" else end

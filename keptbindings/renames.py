@@ -5,8 +5,8 @@ from keptbindings.conflicts import Conflicts
 from keptbindings.errors import BadName, BadPlace, Refused
 from keptbindings.members import START
 from keptbindings.projects import Project
-from keptbindings.tokens import LONGEST_PROGRAM, is_name
-from keptbindings.weaving import FreshNames, Strand, renamed_places
+from keptbindings.tokens import is_name
+from keptbindings.weaving import Cloth, FreshNames, Strand, renamed_places
 
 
 class Change:
@@ -112,14 +112,10 @@ def _fresh_names(project, conflicts, wanted):
 
 def _written(project, new_names, further):
     names = renamed_places(project.naming(), new_names)
-    texts = {}
-    origins = {}
+    cloth = Cloth()
     for module, text in project.modules().items():
         strand = Strand(module)
         strand.copy_piece(project, module, 0, len(text), names)
-        texts[module] = strand.written()
-        for place, origin in strand.origins.items():
-            origins[place] = origin
-    if any([len(text) > LONGEST_PROGRAM for text in texts.values()]):
-        raise Refused("size", None, None)
-    return Change(project, Project(texts), origins, [], [], further)
+        cloth.take_in(strand)
+    cloth.refuse_size()
+    return Change(project, Project(cloth.texts), cloth.origins, [], [], further)

@@ -1,8 +1,11 @@
 """Writes the new texts of a change piece by piece, and keeps what their names come from."""
 
+from keptbindings.errors import BadName, BadSyntax, BadText, Refused
 from keptbindings.links import BUILTINS
 from keptbindings.members import START
+from keptbindings.statements import read_module
 from keptbindings.tables import KEYWORD
+from keptbindings.tokens import is_name
 
 LONGEST_STEM = 16
 
@@ -36,16 +39,40 @@ class Strand:
         self.added.append((self.module, self._size))
         self.write(text)
 
-    def copy_piece(self, project, module, start, end, names, label=0):
-        """Writes a piece of a text, with other names at some places; keywords have the label 0."""
+    def copy_piece(self, project, module, start, end, names, label=0, for_keywords=0):
+        """Writes a piece of a text, with other names at some places; keywords have a label of their own."""
         text = project.text_of(module)
         at = start
         for sight in project.naming().sights_within(module, start, end):
             self.write(text[at:sight.start])
-            own_label = 0 if sight.role == KEYWORD else label
+            own_label = for_keywords if sight.role == KEYWORD else label
             self.write_name(names.get(sight.place, sight.text), sight.place, own_label)
             at = sight.start + len(sight.text)
         self.write(text[at:end])
+
+
+class Cloth:
+    """The new texts of all modules, with the origins of their names and the places of those without one."""
+
+    def __init__(self):
+        self.texts = {}
+        self.origins = {}
+        self.added = []
+
+    def take_in(self, strand):
+        """The text of a module is written."""
+        self.texts[strand.module] = strand.written()
+        self.added.extend(strand.added)
+        for place, origin in strand.origins.items():
+            self.origins[place] = origin
+
+    def refuse_size(self):
+        """Refuses texts that break a bound."""
+        for text in self.texts.values():
+            try:
+                read_module(text)
+            except (BadText, BadSyntax):
+                raise Refused("size", None, None)
 
 
 class FreshNames:
@@ -69,3 +96,18 @@ class FreshNames:
 def renamed_places(naming, new_names):
     """The new names by all places, from new names by the keys of meanings."""
     return {place: new_names[key] for key in new_names for place in naming.places[key]}
+
+
+def end_with_line(text, end):
+    """Where the line ends, with its line feed, if blanks alone stand ahead of that; otherwise the same end."""
+    feed = text.find("\n", end)
+    return feed + 1 if feed >= 0 and text[end:feed].strip(" ") == "" else end
+
+
+def refuse_new_name(project, name, other):
+    """Refuses any value that is no name, or one that stands in the project already; other is the place told then."""
+    if not is_name(name) or name in BUILTINS or name == START or project.has(name):
+        raise BadName(name)
+    for sight in project.naming().sights.values():
+        if sight.text == name:
+            raise Refused("taken", sight.place, other)

@@ -69,7 +69,15 @@ class LanguageTest(unittest.TestCase):
             for word in names_in(tree):
                 self.assertIsNone(BARRED_WORDS.fullmatch(word), name)
                 self.assertFalse(word.startswith(BARRED_BEGINS), name)
-                self.assertRegex(word, r"^(_?[A-Za-z][A-Za-z0-9_]*|_|__(init|eq|len)__|keptbindings\.[a-z]+)$", name)
+                self.assertRegex(word, r"^(_?[A-Za-z][A-Za-z0-9_]*|_|__(init|eq|len|class|name)__|keptbindings\.[a-z]+)$", name)
+
+    def test_the_name_of_a_class_is_asked_of_an_object(self):
+        for name, tree in TREES.items():
+            asked = [one.value for one in ast.walk(tree) if isinstance(one, ast.Attribute) and one.attr == "__name__"]
+            shown = [one for one in ast.walk(tree) if isinstance(one, ast.Attribute) and one.attr == "__class__"]
+            self.assertEqual([id(one) for one in asked], [id(one) for one in shown], name)
+            for one in shown:
+                self.assertIsInstance(one.value, ast.Name, name)
 
     def test_the_folder_has_plain_files_alone(self):
         for name in os.listdir(FOLDER):
