@@ -13,12 +13,7 @@ def keeps(old, new, origins, cut=(), added=()):
         return False
     if any([not _may_be_added(behind, place, extra) for place in extra]):
         return False
-    split = {before.key_of[place]: True for place in cut}
-    pairs = []
-    for place, (origin, label) in origins.items():
-        key = before.key_of[origin]
-        pairs.append((behind.key_of[place], (key, label if key in split else 0)))
-    return _are_one_to_one(pairs) and all([_keeps_pinned(before, behind, told[0], key) for key, told in pairs])
+    return first_unlike(old, new, origins, cut) is None
 
 
 def _are_places(naming, places):
@@ -40,15 +35,22 @@ def _may_be_added(behind, place, extra):
     return behind.is_pinned(key) or all([other in extra for other in behind.places[key]])
 
 
-def _are_one_to_one(pairs):
-    """Whether the left sides of any two pairs are equal exactly if the right ones are."""
+def first_unlike(old, new, origins, cut):
+    """The first place of a new project whose name means something else than those ahead of it, or None."""
+    (before, behind) = (old.naming(), new.naming())
+    split = {before.key_of[place]: True for place in cut}
     (to_right, to_left) = ({}, {})
-    for left, right in pairs:
+    for place in sorted(origins):
+        (origin, label) = origins[place]
+        (left, key) = (behind.key_of[place], before.key_of[origin])
+        right = (key, label if key in split else 0)
         if to_right.get(left, right) != right or to_left.get(right, left) != left:
-            return False
+            return place
+        if not _keeps_pinned(before, behind, key, left):
+            return place
         to_right[left] = right
         to_left[right] = left
-    return True
+    return None
 
 
 def _keeps_pinned(before, behind, old_key, new_key):
