@@ -158,7 +158,7 @@ class Moving:
         return ("from ", key[1], " import ", (key[3], self._first_place(key), 2))
 
     def _add_line(self, module, parts):
-        text = "".join([part if isinstance(part, str) else part[0] for part in parts])
+        text = "".join([part if isinstance(part, str) else part[0] for part in parts]) + ";"
         self._lines[module][text] = parts
 
     def _woven(self):
