@@ -193,5 +193,8 @@ def work(machine):
     """Does all tasks."""
     while machine.tasks:
         (word, thing, extra) = machine.tasks.pop()
-        action = COMPUTING[word] if word in COMPUTING else DOING[word]
+        if word in COMPUTING:
+            action = COMPUTING[word]
+        else:
+            action = DOING[word]
         action(machine, thing, extra)

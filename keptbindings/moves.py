@@ -49,7 +49,7 @@ class Moving:
         self._project = project
         self._naming = project.naming()
         self._brought = brought
-        self._key = self._naming.key_of[brought.place]
+        self._moved_key = self._naming.key_of[brought.place]
         self._node = brought.node
         self._old = brought.scope.module
         self._new = new
@@ -59,7 +59,7 @@ class Moving:
         # Import lines by modules: dicts from texts to what they are made of.
         self._lines = {module: {} for module in project.modules()}
         # The places of names that stand for modules by as, and move.
-        self._cut = {}
+        self._aliases = {}
 
     def change(self):
         """The change."""
@@ -71,7 +71,7 @@ class Moving:
         self._add_lines_for_moved()
         cloth = self._woven()
         cloth.refuse_size()
-        cut = sorted(self._cut)
+        cut = sorted(self._aliases)
         try:
             new = Project(cloth.texts)
         except BadProject as error:
@@ -100,7 +100,7 @@ class Moving:
     def _item_that_goes(self):
         """The name that an import without as brings into the new module with the meaning that moves, or None."""
         for sight in self._naming.links.finders[self._new].sights:
-            if sight.role == ASKED and sight.brings and self._naming.key_of[sight.place] == self._key:
+            if sight.role == ASKED and sight.brings and self._naming.key_of[sight.place] == self._moved_key:
                 return sight
         return None
 
@@ -112,8 +112,8 @@ class Moving:
 
     def _add_lines_for_others(self):
         """Adds the import lines for what moves, to its old module and to those that found it by a star."""
-        parts = ("from ", self._new, " import ", (self._brought.text, self._first_place(self._key), 2))
-        for place in self._naming.places[self._key]:
+        parts = ("from ", self._new, " import ", (self._brought.text, self._first_place(self._moved_key), 2))
+        for place in self._naming.places[self._moved_key]:
             sight = self._naming.sights[place]
             if self._asks_old(sight):
                 self._add_line(self._old, parts)
@@ -140,10 +140,10 @@ class Moving:
         links = self._naming.links
         for sight in self._sights:
             key = self._naming.key_of[sight.place]
-            if not _is_alone(sight) or not _is_of_top(key) or key == self._key:
+            if not _is_alone(sight) or not _is_of_top(key) or key == self._moved_key:
                 continue
             if key[0] == "own" and links.module_behind(key) is not None:
-                self._cut[self._first_place(key)] = True
+                self._aliases[self._first_place(key)] = True
             if links.find(links.roots[self._new], sight.text) != key:
                 self._refuse_taken(sight)
                 self._add_line(self._new, self._parts_of_line(key))

@@ -66,8 +66,8 @@ class Ordering:
         self._home = brought.scope.module
         self._order = order
         self._added = added
-        self._parameters = {one.name.text: one for one in brought.node.parameters}
-        self._dropped = [name for name in self._parameters if name not in order]
+        self._by_name = {one.name.text: one for one in brought.node.parameters}
+        self._dropped = [name for name in self._by_name if name not in order]
         # The calls of the def by modules, in the order of the text: tuples (place of the called name, call).
         self._calls = {module: [] for module in project.modules()}
         self._collect_calls()
@@ -104,7 +104,7 @@ class Ordering:
 
     def _place_of(self, name):
         """The place of a parameter."""
-        return (self._home, self._parameters[name].name.start)
+        return (self._home, self._by_name[name].name.start)
 
     def _collect_calls(self):
         for place in self._naming.places[self._naming.key_of[self._brought.place]]:
@@ -127,7 +127,7 @@ class Ordering:
                     self._refuse("used", place)
 
     def _refuse_order(self):
-        sure = [self._parameters[name].default is None for name in self._order]
+        sure = [self._by_name[name].default is None for name in self._order]
         if sorted(sure, reverse=True) != sure:
             self._refuse("order", self._brought.place)
 
@@ -168,7 +168,7 @@ class Ordering:
     def _write_parameters(self, strand):
         for at, name in enumerate(self._order):
             strand.write(", " if at else "")
-            parameter = self._parameters[name]
+            parameter = self._by_name[name]
             strand.copy_piece(self._project, self._home, parameter.start, parameter.end, {})
         for at, (name, default) in enumerate(self._added):
             strand.write(", " if at or self._order else "")
@@ -190,7 +190,7 @@ class Ordering:
 
     def _arguments(self, call):
         """The arguments of a call with the names of their parameters, in the order of the text."""
-        names = list(self._parameters)
+        names = list(self._by_name)
         found = []
         for at, argument in enumerate(call.arguments):
             found.append((names[at] if argument.keyword is None else argument.keyword.text, argument))

@@ -12,6 +12,8 @@ BEYOND = 10 ** 40
 MOST_CHARACTERS = 1000
 MOST_ROWS = 1000
 MOST_DEEP = 20
+# How values of these kinds are written; those of the other kinds left are functions.
+WRITTEN = {"none": "none", "class": "class", "instance": "object"}
 
 
 class Halt(KeptError):
@@ -130,7 +132,7 @@ def written(value, quoted):
         return "true" if value else "false"
     if kind == "list":
         return "[" + ", ".join([written(one, True) for one in value.rows]) + "]"
-    return {"none": "none", "class": "class", "instance": "object"}.get(kind, "fn")
+    return WRITTEN.get(kind, "fn")
 
 
 def sized(value):
