@@ -148,6 +148,32 @@ class LanguageTest(unittest.TestCase):
                     if isinstance(one, ast.Attribute) and isinstance(one.ctx, ast.Store):
                         self.assertNotIn(one.attr, methods, name)
 
+    def test_no_name_is_a_method_of_one_class_and_an_attribute_of_another(self):
+        (methods, attributes) = (set(), set())
+        for tree in TREES.values():
+            for node in [one for one in tree.body if isinstance(one, ast.ClassDef)]:
+                methods.update(one.name for one in node.body if isinstance(one, ast.FunctionDef))
+                stored = [one for one in ast.walk(node) if isinstance(one, ast.Attribute) and isinstance(one.ctx, ast.Store)]
+                attributes.update(one.attr for one in stored)
+        self.assertEqual(methods & attributes, set())
+
+    def test_tables_hold_functions_of_their_own_file(self):
+        for name, tree in TREES.items():
+            defined = [one.name for one in tree.body if hasattr(one, "name")]
+            for node in [one for one in tree.body if isinstance(one, ast.Assign)]:
+                for one in ast.walk(node.value):
+                    if isinstance(one, ast.Name):
+                        self.assertIn(one.id, defined, name)
+
+    def test_generators_are_no_part_of_a_try_and_errors_are_made_on_the_spot(self):
+        for name, tree in TREES.items():
+            for node in ast.walk(tree):
+                if isinstance(node, ast.Raise):
+                    self.assertIsInstance(node.exc, ast.Call, name)
+                    self.assertIsInstance(node.exc.func, ast.Name, name)
+                if isinstance(node, ast.Try):
+                    self.assertFalse([one for one in ast.walk(node) if isinstance(one, (ast.Yield, ast.YieldFrom))], name)
+
     def test_what_is_asked_is_a_list_and_sets_are_not_stored(self):
         asked = ("any", "all", "min", "max", "sum", "sorted")
         for name, tree in TREES.items():

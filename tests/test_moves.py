@@ -2,8 +2,11 @@ import random
 import unittest
 
 from keptbindings.errors import BadPlace, Refused
+from keptbindings.loading import early
 from keptbindings.moves import move
 from keptbindings.projects import Project
+from keptbindings.runs import loading_error
+from tests.linking import linked_projects
 from tests.programs import random_projects
 from tests.running import compare_runs, runnable_projects
 from tests.test_inlines import unmarked
@@ -222,20 +225,32 @@ class MoveTest(unittest.TestCase):
 
     def test_random_moves(self):
         source = random.Random(5)
+        for projects, least in ((runnable_projects(source, 20), 10), (random_projects(source, 60), 10), (linked_projects(source, 60), 60),
+                                (linked_projects(source, 30, False), 20)):
+            done = 0
+            for project in projects:
+                done += self.moved(source, project)
+            self.assertGreater(done, least)
+
+    def moved(self, source, project):
+        """How many defs and classes of a project move; each may be refused, or all loads and runs stay."""
         done = 0
-        for project in runnable_projects(source, 40) + random_projects(source, 60):
-            for module in project.modules():
-                for row in project.tree_of(module):
-                    others = [other for other in project.modules() if other != module]
-                    if row.__class__.__name__ in ("Def", "ClassBlock") and others:
-                        try:
-                            change = move(project, (module, row.name.start), source.choice(others))
-                        except (BadPlace, Refused):
-                            continue
-                        self.assertTrue(change.keeps())
-                        compare_runs(self, change)
-                        done += 1
-        self.assertGreater(done, 60)
+        for module in project.modules():
+            for row in project.tree_of(module):
+                others = [other for other in project.modules() if other != module]
+                if row.__class__.__name__ in ("Def", "ClassBlock") and others:
+                    try:
+                        change = move(project, (module, row.name.start), source.choice(others))
+                    except (BadPlace, Refused):
+                        continue
+                    self.assertTrue(change.keeps())
+                    for one in project.modules():
+                        if loading_error(project, one) is None:
+                            self.assertIsNone(loading_error(change.new, one))
+                            self.assertIsNone(early(change.new, one))
+                    compare_runs(self, change)
+                    done += 1
+        return done
 
 
 if __name__ == "__main__":
