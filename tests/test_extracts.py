@@ -178,6 +178,8 @@ class ExtractTest(unittest.TestCase):
         self.refused_at("def h(a) { def f(b) { @show(h); h(#a = a);@ } }", "outer")
         self.refused_at("class c { def m(s) { def f() { @show(#s);@ } } }", "outer")
         self.refused_at("def h(a) { def f() { nonlocal a; @show(#a);@ } }", "outer")
+        self.check({"m": "def h() { def f() { @k(a = 1);@ } } from n import k;", "n": "def k(a) { }"},
+                   {"m": "def g() {\nk(a = 1);\n}\ndef h() { def f() { g(); } } from n import k;", "n": "def k(a) { }"})
         self.check("def h(a) { def f(a) { @show(a);@ } }", "def g(a) {\nshow(a);\n}\ndef h(a) { def f(a) { g(a); } }")
 
     def test_shared(self):

@@ -58,6 +58,7 @@ class HandingTest(unittest.TestCase):
         self.check("class c { def <0>m() { } } def f(e, x) { e.m(x); }")
         self.check("class c { def <0>m(<1>s) { } } def f(e, x) { <3>e.m(x); }", (3, 1))
         self.check("class c { def <0>start(<1>s, <2>a) { } } def f(e, x) { c(x); <3>e.start(<4>x); }", (3, 1), (4, 2))
+        self.check({"m": "class c { def <0>m(<1>s, <2>a) { return <5>a; } }", "n": "def f(e, x) { <6>y = <3>e.m(<4>x); }"}, (3, 1), (4, 2), (5, 6))
         # One meaning, two defs.
         self.check("class c { def <0>m(<1>s) { } } class d(c) { def m(t) { <3>t.m(); } }", (3, 1))
         self.check("class c { def m(s) { } } class d(c) { def <0>m(<1>t) { <3>t.m(); } }", (3, 1))
@@ -116,6 +117,12 @@ class HandsOverTest(unittest.TestCase):
             self.assertIs(self.told({one: origin for one, origin in good.items() if one != place}), False)
             for wrong in (None, 1, x, (x,), (x, None), (x, "0"), (x, True), (x, 0, 0), [x, 0], (("m", 0), 0), (("m", 1), 0), (("k", 29), 0), (["m", 29], 0), (None, 0)):
                 self.assertIs(self.told({**good, place: wrong}), False, (place, wrong))
+
+    def test_a_pair_without_origins(self):
+        good = {("m", 18): (("m", 37), 0), ("m", 37): (("m", 37), 0)}
+        self.assertIs(self.told(good), False)
+        self.assertIs(self.told({**good, ("m", 43): (("m", 0), 0), ("m", 6): (("m", 0), 0)}), False)
+        self.assertIs(self.told({**good, ("m", 43): (("m", 29), 0), ("m", 6): (("m", 29), 0)}), True)
 
     def test_other_entries_are_not_looked_at(self):
         good = {("m", 43): (("m", 29), 0), ("m", 6): (("m", 43), 0), ("m", 18): (("m", 37), 0), ("m", 37): (("m", 37), 0)}

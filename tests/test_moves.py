@@ -58,6 +58,8 @@ class MoveTest(unittest.TestCase):
         self.check({"m": "def @f() { return f(); }", "n": ""}, {"m": "", "n": "def f() { return f(); }\n"})
         self.check({"m": "def @f() { } def g() { global f; return f; }", "n": ""},
                    {"m": "from n import f;\n def g() { global f; return f; }", "n": "def f() { }\n"})
+        self.check({"m": "def @f() { } def g() { global f; }", "n": ""}, {"m": "from n import f;\n def g() { global f; }", "n": "def f() { }\n"})
+        self.check({"m": "def @f() { }", "n": "from m import f;", "o": "import n; y = fn: n.f();"}, {"m": "", "n": "def f() { }\n"})
         self.check({"m": "class @c { } class d(c) { }", "n": ""}, {"m": "from n import c;\n class d(c) { }", "n": "class c { }\n"})
         self.check({"m": "def @f() { } def g(f) { return f; }", "n": ""}, {"m": " def g(f) { return f; }", "n": "def f() { }\n"})
         for asking in ("from m import f; y = fn: f;", "from m import f as k; y = fn: k;", "import m; y = fn: m.f;", "import m as k; y = fn: k.f;"):
@@ -69,6 +71,8 @@ class MoveTest(unittest.TestCase):
     def test_import_lines_where_a_star_found_it(self):
         self.check({"m": "def @f() { }", "n": "", "o": "from m import *; y = fn: f();"},
                    {"m": "", "n": "def f() { }\n", "o": "from n import f;\nfrom m import *; y = fn: f();"})
+        self.check({"m": "def @f() { }", "n": "", "o": "y = fn: f(); from m import *;"},
+                   {"m": "", "n": "def f() { }\n", "o": "from n import f;\ny = fn: f(); from m import *;"})
         self.check({"m": "def @f() { }", "n": "", "o": "from m import *; y = 1;"}, {"m": "", "n": "def f() { }\n"})
         self.check({"m": "def @f() { }", "n": "from m import *; y = fn: f();"}, {"m": "", "n": "from m import *; y = fn: f();\ndef f() { }\n"})
         self.check({"m": "class @c { }", "n": "", "o": "from m import *; class d(c) { }"},
@@ -80,6 +84,9 @@ class MoveTest(unittest.TestCase):
                     "n": "from m import x;\nfrom o import z;\nimport o as k;\nimport o;\ndef f() { return [z, o.z, k.z, x, len]; }\n"})
         self.check({"m": "from o import z as w; def @f() { return w; }", "n": "", "o": "z = 1;"},
                    {"m": "from o import z as w; ", "n": "from m import w;\ndef f() { return w; }\n"})
+        self.check({"m": "from ob import a; from oa import z; import ob; import oa; def @f() { return [a, z, ob.a, oa.z]; }", "n": "", "oa": "z = 1;", "ob": "a = 1;"},
+                   {"m": "from ob import a; from oa import z; import ob; import oa; ",
+                    "n": "from oa import z;\nfrom ob import a;\nimport oa;\nimport ob;\ndef f() { return [a, z, ob.a, oa.z]; }\n"})
         self.check({"m": "from o import *; def @f() { return z; }", "n": "", "o": "z = 1;"},
                    {"m": "from o import *; ", "n": "from o import z;\ndef f() { return z; }\n"})
         self.check({"m": "from o import *; def @f() { return z; }", "n": "from o import *;", "o": "z = 1;"},
@@ -158,6 +165,7 @@ class MoveTest(unittest.TestCase):
         self.refused({"m": "import o as k; def @f() { return @k.z; }", "n": "import o as @k;", "o": "z = 1;"}, "taken", 1, 2)
         self.refused({"m": "import o; def @f() { return [w, @o.z]; } w = 1;", "n": "def @o() { }", "o": "z = 1;"}, "taken", 1, 2)
         self.refused({"m": "x = 1; def @f() { return x; }", "n": "@f = 2; x = 3;"}, "taken", 0, 1)
+        self.refused({"m": "x = 1; def @f() { return @x; }", "n": "from m import f; @x = 3;"}, "taken", 1, 2)
         project = Project({"f": "y = 1;", "m": "def f() { }", "n": "import f; z = fn: f.y;"})
         with self.assertRaises(Refused) as caught:
             move(project, ("m", 4), "n")
@@ -189,6 +197,17 @@ class MoveTest(unittest.TestCase):
     def test_loading_too_early_now(self):
         self.refused({"m": "def @f() { }", "n": "", "o": "y = true or @z; z = 1;"}, "loading")
         self.check({"m": "def @f() { }", "n": "", "o": "y = z; z = 1;"}, {"m": "", "n": "def f() { }\n"})
+
+    def test_loading_too_early_now_comes_ahead_of_then(self):
+        project, places = unmarked({"m": "y = true or @z; z = 1; def @f() { } k = fn: f;", "n": "w = true or v; v = 1;"})
+        with self.assertRaises(Refused) as caught:
+            move(project, places[1], "n")
+        self.assertEqual((caught.exception.reason, caught.exception.one, caught.exception.other), ("loading", places[0], places[1]))
+        # Of several modules the first one counts: m, which loads n then.
+        project, places = unmarked({"m": "def @f() { } k = fn: f;", "n": "w = true or @v; v = 1;"})
+        with self.assertRaises(Refused) as caught:
+            move(project, places[0], "n")
+        self.assertEqual((caught.exception.reason, caught.exception.one), ("loading", places[1]))
 
     def test_loading_too_early_then(self):
         self.refused({"m": "class @d { } class e(@d) { }", "n": "import m; x = 1;"}, "loading")

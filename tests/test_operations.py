@@ -145,6 +145,14 @@ class OperationTest(unittest.TestCase):
             self.assertTrue(at("drop", ("m", start)).behind(insertion) == at("drop", ("m", behind)))
         self.assertTrue(at("drop", ("m", 4)).behind(step=insertion) == at("drop", ("m", 4)))
 
+    def test_what_is_no_place_stays_for_on_to_refuse(self):
+        edit = Edit("m", 0, 3, "")
+        for value in (None, 1, "m", ("m",), ("m", None), ("m", "1"), ["m", 1], ("m", 1, 2), ("m", True)):
+            self.assertTrue(at("inline", value).behind(edit) == at("inline", value))
+            with self.assertRaises(BadPlace):
+                at("inline", value).behind(edit).on(Project({"m": ""}))
+            self.lost(at("inline", value), rename(Project({"m": "x = 1;"}), {("m", 0): "y"}), value)
+
     def test_an_extract_behind_an_edit(self):
         edit = Edit("m", 10, 15, "abc")
         for start, end, new in ((0, 9, (0, 9)), (0, 10, (0, 10)), (0, 16, (0, 14)), (15, 20, (13, 18)), (9, 30, (9, 28)), (20, 21, (18, 19))):
@@ -208,6 +216,7 @@ class OperationTest(unittest.TestCase):
         project = Project({"m": "def f(a, b) { return a; } y = fn: f(1, 2);"})
         change = change_parameters(project, ("m", 4), ["a"])
         self.lost(parameters_of(("m", 4), ["b", "a"]), change, ("m", 9))
+        self.assertTrue(parameters_of(("m", 26), ["b", "a"]).behind(change) == parameters_of(("m", 23), ["b", "a"]))
         self.assertTrue(parameters_of(("m", 4), ["a"]).behind(change) == parameters_of(("m", 4), ["a"]))
         self.assertTrue(parameters_of(("m", 34), ["q", "a"]).behind(change) == parameters_of(("m", 31), ["q", "a"]))
 

@@ -365,6 +365,8 @@ class RunsTest(unittest.TestCase):
         self.assertEqual(told(text, [4997], 10000).value, "4997")
         self.assertEqual(told(text, [4998]).error, "steps")
         self.assertEqual(told(text, [49997], 100000).value, "49997")
+        self.assertEqual(run(Project({"m": text}), "m", "f", [4997]).value, "4997")
+        self.assertEqual(run(Project({"m": text}), "m", "f", [4998]).error, "steps")
 
     def test_deep(self):
         text = "def f(n) { if n == 0 { return 0; } return 1 + f(n - 1); }"
@@ -382,7 +384,10 @@ class RunsTest(unittest.TestCase):
             self.assertEqual(told(text % call, [98]).error, word, call)
         for call, word in (("f()", "deep"), ("c.m(1)", "deep"), ("c.m()", "deep"), ("len()", "arguments"), ("1(1)", "kind"), ("c(1)", "arguments")):
             self.assertEqual(told(text % call, [99]).error, word, call)
-        # 100 calls, one behind another, are never open at once.
+        # Calls that ended are not open any more, and count neither way.
+        text = "def g() { } def k(n) { if n == 0 { return 0; } return k(n - 1); } def f(n) { for i in range(9) { g(); } return k(n); }"
+        self.assertEqual(told(text, [98]).value, "0")
+        self.assertEqual(told(text, [99]).error, "deep")
         self.assertEqual(told("def g() { } def f() { for i in range(200) { g(); } return i; }").value, "199")
 
     def test_deep_runs_do_not_need_deep_recursion_of_python(self):
