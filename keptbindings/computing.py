@@ -48,7 +48,7 @@ def begin_comprehension(machine, node, extra):
     (source,) = machine.take(1)
     rows = asked(source, "list").rows
     outer = machine.frame
-    machine.frame = Frame(outer.module, node.start, outer, None)
+    machine.frame = Frame(outer.module, node.start, outer, None, {})
     machine.push("round", node, (rows, 0, []))
 
 
@@ -234,7 +234,8 @@ def closure_of(machine, node):
 def put_member(machine, target, value):
     """What is ahead of the point of a target is computed; its member gets the value."""
     (left,) = machine.take(1)
-    asked(left, "instance").names[target.name.text] = value
+    instance = asked(left, "instance")
+    instance.names[target.name.text] = value
 
 
 def put(machine, target, value):

@@ -66,8 +66,7 @@ def do_class(machine, row, extra):
     made = ClassWorth(base, {})
     machine.push("classed", row, made)
     machine.push("leave", outer)
-    machine.frame = Frame(outer.module, row.start, outer, made)
-    machine.frame.names = made.names
+    machine.frame = Frame(outer.module, row.start, outer, made, made.names)
     machine.push("block", row.body, 0)
 
 

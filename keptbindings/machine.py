@@ -28,7 +28,7 @@ class Machine:
         self._calls = 0
         self._builtins = {name: Builtin(name) for name in ("len", "range", "show")}
         self._begun = {}
-        self.roots = {module: Frame(module, -1, None, None) for module in project.modules()}
+        self.roots = {module: Frame(module, -1, None, None, {}) for module in project.modules()}
         self.frame = None
         self.tasks = []
         self.worths = []
@@ -98,7 +98,8 @@ class Machine:
     def write(self, name, value):
         """Gives a value to the variable that a name stands for."""
         key = self.variable(name)
-        self._names_of(key)[key[3]] = value
+        names = self._names_of(key)
+        names[key[3]] = value
 
     def ask_member(self, value, name):
         """Computes the member of a value."""
@@ -168,8 +169,7 @@ class Machine:
                 raise Halt("kind")
         self._calls += 1
         self.push("return", self.frame)
-        self.frame = Frame(closure.frame.module, node.start, closure.frame, None)
-        self.frame.names = names
+        self.frame = Frame(closure.frame.module, node.start, closure.frame, None, names)
         if isinstance(node, Def):
             self.push("fall")
             self.push("block", node.body, 0)

@@ -34,17 +34,17 @@ class Rows:
 
 
 class Frame:
-    """The variables of a scope in one call or computation; outer is the one around it, None for a module.
+    """The variables of a scope in one call or computation, by names; outer is the one around it, None for a module.
 
     owner is the class whose table this is, or None.
     """
 
-    def __init__(self, module, start, outer, owner):
+    def __init__(self, module, start, outer, owner, names):
         self.module = module
         self.start = start
         self.outer = outer
         self.owner = owner
-        self.names = {}
+        self.names = names
 
 
 class Builtin:

@@ -1,8 +1,11 @@
+import random
 import unittest
 
-from keptbindings.errors import BadName, BadPlace, BadValue
+from keptbindings.errors import BadName, BadPlace, BadValue, KeptError
 from keptbindings.projects import Project
 from keptbindings.runs import Run, run
+from tests.pythonic import python_run
+from tests.running import RunWriter, defs_of
 
 
 def told(modules, arguments=(), steps=10000, name="f"):
@@ -432,6 +435,26 @@ class RunsTest(unittest.TestCase):
         self.assertEqual((told(text).error, told(text).output), ("size", ["1", "2", "3"]))
         text = "def g(x) { show(x); return range(600); } def f() { return [g(x) for x in [1, 2, 3]]; }"
         self.assertEqual((told(text).error, told(text).output), ("size", ["1", "2", "3"]))
+
+    def test_random_runs_are_those_of_python(self):
+        source = random.Random(29)
+        (whole, late) = (0, 0)
+        for _ in range(60):
+            try:
+                project = Project({"m": RunWriter(source).module("m", {})[0]})
+            except KeptError:
+                continue
+            for _, _, name, many in defs_of(project):
+                found = run(project, "m", name, [3, 0, 2][:many], 100000)
+                expected = python_run(project.tree_of("m"), name, [3, 0, 2][:many])
+                if found.error is None:
+                    self.assertEqual((found.value, found.output), expected)
+                    whole += 1
+                elif found.error == "unassigned":
+                    self.assertIsNone(expected)
+                    late += 1
+        self.assertGreater(whole, 60)
+        self.assertGreater(late, 5)
 
     def test_wrong_values_in_their_order(self):
         project = Project({"m": "x = 1; def f(a) { def g() { } } class c { def k(s) { } } from n import h;", "n": "def h() { }"})
