@@ -9,7 +9,7 @@ part, is the task to do or to compute it.
 
 from keptbindings.reading import variable_at
 from keptbindings.trees import Def
-from keptbindings.worths import Builtin, ClassWorth, Closure, Frame, Halt, Instance, Method, Rows
+from keptbindings.worths import MOST_ROWS, Builtin, ClassWorth, Closure, Frame, Halt, Instance, Method, Rows
 from keptbindings.worths import asked, found_in_class, is_instance_of, kind_of, sized, written
 
 MOST_CALLS = 100
@@ -138,8 +138,8 @@ class Machine:
             return None
         if name == "range":
             asked(value, "integer")
-            # A longer list is too large in any case, and need not be made.
-            return sized(Rows(list(range(min(value, 1001)))))
+            # One that is longer still is too large, too, and need not be made.
+            return sized(Rows(list(range(min(value, MOST_ROWS + 1)))))
         if kind_of(value) == "text":
             return len(value)
         return len(asked(value, "list").rows)

@@ -123,12 +123,14 @@ def _moved_names(place, names, change):
 def merge(project, edits, operations):
     """Does edits, then operations, each made for the project as it is at first; yields the project behind each."""
     done = []
-    for edit in edits:
+    # Both lists are kept as they are now, whatever becomes of them between two steps.
+    (written, wished) = (list(edits), list(operations))
+    for edit in written:
         step = _edit_behind(edit, done)
         project = project.edited(step)
         done.append(step)
         yield project
-    for operation in operations:
+    for operation in wished:
         moved = operation
         for step in done:
             moved = moved.behind(step)
