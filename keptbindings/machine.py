@@ -49,9 +49,11 @@ class Machine:
 
     def take(self, many):
         """The values that were computed last, which go, in their order."""
-        at = len(self.worths) - many
-        found = self.worths[at:]
-        del self.worths[at:]
+        worths = self.worths
+        at = len(worths) - many
+        found = worths[at:]
+        # The pile stays the same list, for others may be about to append to it.
+        del worths[at:]
         return found
 
     def begin_step(self):
